@@ -1,0 +1,1 @@
+"""Leavelots: lots from which somebody can always leave."""
