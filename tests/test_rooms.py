@@ -10,9 +10,9 @@ from tests.values import any_values, is_name, is_sequence, rooms_to_try
 TEXT = "a\nb\nc if a\nc if b\nd if a b"
 NO_RULES = [
     " ", "  ", "a ", " a", "a  if b", "a if", "a if ", "a if  b", "a if b ", "a if b  c", " a if b", "if", "if if",
-    "if a", "if if a", "a if if", "a if b if c", "a if b if", "a b", "a b c", "a iff b", "a If b", "a fi b", "A", "abcd", "a1",
-    "a if B", "a if abcd", "a if b,c", "a,b", "a if a", "a if b a", "a if a b", "aif b", "a ifb", "a;b", "#", "a if 1",
-    "ab if c d ab", "none if", "a:b", "if if if", "a not b",
+    "if a", "if if a", "a if if", "a if b if c", "a if b if", "a b", "a b c", "a iff b", "a If b", "a fi b", "A",
+    "abcd", "a1", "a if B", "a if abcd", "a if b,c", "a,b", "a if a", "a if b a", "a if a b", "aif b", "a ifb",
+    "a;b", "#", "a if 1", "ab if c d ab", "none if", "a:b", "if if if", "a not b",
 ]
 
 
