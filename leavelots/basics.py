@@ -3,9 +3,14 @@
 LETTERS = "abcdefghijklmnopqrstuvwxyz"
 
 
+def is_int(value):
+    """Whether any value is an integer, which a bool is not."""
+    return isinstance(value, int) and not isinstance(value, bool)
+
+
 def is_index(value, many):
     """Whether a value is an integer from 0 on and below `many`."""
-    return isinstance(value, int) and not isinstance(value, bool) and 0 <= value < many
+    return is_int(value) and 0 <= value < many
 
 
 def is_name(value):
@@ -23,6 +28,11 @@ def is_sequence(value):
 def are_names(value):
     """Whether any value is a sequence of names, perhaps some twice."""
     return is_sequence(value) and all([is_name(thing) for thing in value])
+
+
+def are_unlike(value):
+    """Whether any value is a sequence of unlike names."""
+    return are_names(value) and len(set(value)) == len(value)
 
 
 def lot_of(names):

@@ -1,6 +1,6 @@
 """Lots: who may leave, which lots can be gone, and who can never leave."""
 
-from leavelots.basics import are_names, is_lot, lot_of
+from leavelots.basics import are_unlike, is_lot, lot_of
 from leavelots.errors import InvalidName
 
 
@@ -16,18 +16,20 @@ def is_fulfilled(rule, gone):
 
 def lots(room):
     """The ascending tuple of all lots that can be gone."""
+    return tuple(sorted([names_of(room, bits) for bits in lots_after(room)]))
+
+
+def lots_after(room):
+    """For each lot that can be gone, small ones first, the lots with one more that can be gone, ascending."""
     # A lot is an integer here, one bit for each name: there may be many lots, and tuples are much slower.
     rules = [(bits_of(room, [rule.name]), bits_of(room, rule.gone)) for rule in room.rules]
-    found = {0: True}
-    waiting = [0]
-    while waiting:
-        gone = waiting.pop()
-        for leaving, wanted in rules:
-            after = gone | leaving
-            if gone & wanted == wanted and after not in found:
-                found[after] = True
-                waiting.append(after)
-    return tuple(sorted([names_of(room, bits) for bits in found]))
+    after = {}
+    level = [0]
+    while level:
+        for gone in level:
+            after[gone] = sorted({gone | one for one, wanted in rules if not gone & one and gone & wanted == wanted})
+        level = sorted({bits for lot in level for bits in after[lot]})
+    return after
 
 
 def bits_of(room, names):
@@ -42,22 +44,29 @@ def names_of(room, bits):
 
 def can_be_gone(room, value):
     """Whether any value is a sequence of unlike names that can be gone."""
-    if not are_names(value):
-        return False
-    others = [name for name in room.names if name not in value]
-    # Nobody leaves twice: if a name comes twice, or nobody in the room has it, the lengths differ.
-    return len(leavers(room, others)) == len(value)
+    # Nobody leaves twice: if nobody in the room has one of the names, the lengths differ.
+    return are_unlike(value) and len(leavers(room, others(room, value))) == len(value)
 
 
-def leavers(room, staying):
-    """All who can leave as long as `staying` stay, in an order in which they can."""
-    gone = []
+def others(room, names):
+    """The lot of those of the room who are not among some names."""
+    return tuple([name for name in room.names if name not in names])
+
+
+def leavers(room, staying, gone=()):
+    """`gone`, and behind them all who can leave then as long as `staying` stay, in an order in which they can."""
+    order = list(gone)
     while True:
-        free = [name for name in may(room, gone) if name not in staying]
+        free = [name for name in may(room, order) if name not in staying]
         if not free:
-            return gone
+            return order
         # A fulfilled rule stays fulfilled, so all of them can go before the next look.
-        gone.extend(free)
+        order.extend(free)
+
+
+def who_can_leave(room):
+    """The lot of those who can ever leave."""
+    return others(room, stuck(room))
 
 
 def stuck(room):
@@ -70,8 +79,7 @@ def hull(room, staying):
     for name in staying:
         if name not in room.names:
             raise InvalidName(name)
-    gone = leavers(room, staying)
-    return tuple([name for name in room.names if name not in gone])
+    return others(room, leavers(room, staying))
 
 
 def bar(room):

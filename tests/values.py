@@ -81,6 +81,70 @@ def slow_bar_holds(room, lot):
     return bool(lot) and all(wanted & set(lot) for name, wanted in rows_of(room) if name in lot)
 
 
+def slow_stuck(room):
+    return slow_hull(room, ())
+
+
+def slow_orders(room):
+    """All orders, ascending, by letting people leave in every way."""
+    found, waiting = [], [()]
+    while waiting:
+        order = waiting.pop()
+        free = slow_may(room, order)
+        if not free:
+            found.append(order)
+        waiting += [order + (name,) for name in reversed(free)]
+    return found
+
+
+def slow_number_wrong(room, order):
+    """What `InvalidOrder` tells of something that may be an order, None if it is one."""
+    if not is_sequence(order):
+        return 0
+    for at, name in enumerate(order):
+        if not isinstance(name, str) or name not in slow_may(room, order[:at]):
+            return at
+    return len(order) if slow_may(room, order) else None
+
+
+def slow_reasons(room):
+    """All pairs (x, reason), by comparing all lots with one another."""
+    found = []
+    for name in room.names:
+        having = [set(lot) for lot in slow_lots(room) if name in lot]
+        found += [(name, tuple(sorted(lot))) for lot in having if not any(other < lot for other in having)]
+    return tuple(sorted(found))
+
+
+def slow_rings(room):
+    """All pairs (x, ring), by trying all lots that could keep somebody waiting."""
+    can_be_gone = [set(lot) for lot in slow_lots(room)]
+    can_leave = sorted(set().union(*can_be_gone))
+    found = []
+    for name in can_leave:
+        tried = [set(lot) for lot in subsets([other for other in can_leave if other != name])]
+        keeping = [lot for lot in tried if not any(name in gone and not gone & lot for gone in can_be_gone)]
+        found += [(name, tuple(sorted(lot))) for lot in keeping if not any(other < lot for other in keeping)]
+    return tuple(sorted(found))
+
+
+def slow_told(orders):
+    """All unions of beginnings of orders, as ascending lots."""
+    found = {frozenset()}
+    for order in orders:
+        beginnings = [frozenset(order[:at]) for at in range(len(order) + 1)]
+        found = {lot | beginning for lot in found for beginning in beginnings}
+    return tuple(sorted(tuple(sorted(lot)) for lot in found))
+
+
+def random_order(random, room):
+    """Some order of a room."""
+    order = ()
+    while free := slow_may(room, order):
+        order += (random.choice(free),)
+    return order
+
+
 def random_room(random, names, many):
     """A room of some of these names with so many rules."""
     rules = []
@@ -99,6 +163,10 @@ def strict_room(random, names, many):
         others = [other for other in names if other != name]
         rules.append(Rule(name, random.sample(others, random.randint(1, min(3, len(others))))))
     return Room(rules + [Rule(names[0])])
+
+
+def rooms_where_nobody_can_leave():
+    return [Room.read(text) for text in ("", "a if b", "a if b\nb if a", "a if z\nb if a\nc if a b")]
 
 
 def rooms_to_try():
