@@ -43,3 +43,13 @@ def lot_of(names):
 def is_lot(value):
     """Whether any value is a lot: a list is equal to no tuple, so it is none."""
     return are_names(value) and value == lot_of(value)
+
+
+def bits_of(names, some):
+    """The integer that has the bits of some unlike ones of a lot."""
+    return sum([1 << names.index(name) for name in some])
+
+
+def names_of(names, bits):
+    """The lot of those of a lot whose bits an integer has."""
+    return tuple([name for at, name in enumerate(names) if (bits >> at) & 1])

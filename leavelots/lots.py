@@ -1,6 +1,6 @@
 """Lots: who may leave, which lots can be gone, and who can never leave."""
 
-from leavelots.basics import are_unlike, is_lot, lot_of
+from leavelots.basics import are_unlike, bits_of, is_lot, lot_of, names_of
 from leavelots.errors import InvalidName
 
 
@@ -16,13 +16,13 @@ def is_fulfilled(rule, gone):
 
 def lots(room):
     """The ascending tuple of all lots that can be gone."""
-    return tuple(sorted([names_of(room, bits) for bits in lots_after(room)]))
+    return tuple(sorted([names_of(room.names, bits) for bits in lots_after(room)]))
 
 
 def lots_after(room):
     """For each lot that can be gone, small ones first, the lots with one more that can be gone, ascending."""
     # A lot is an integer here, one bit for each name: there may be many lots, and tuples are much slower.
-    rules = [(bits_of(room, [rule.name]), bits_of(room, rule.gone)) for rule in room.rules]
+    rules = [(bits_of(room.names, [rule.name]), bits_of(room.names, rule.gone)) for rule in room.rules]
     after = {}
     level = [0]
     while level:
@@ -30,16 +30,6 @@ def lots_after(room):
             after[gone] = sorted({gone | one for one, wanted in rules if not gone & one and gone & wanted == wanted})
         level = sorted({bits for lot in level for bits in after[lot]})
     return after
-
-
-def bits_of(room, names):
-    """The integer that has the bits of unlike names of the room."""
-    return sum([1 << room.names.index(name) for name in names])
-
-
-def names_of(room, bits):
-    """The lot of the names whose bits an integer has."""
-    return tuple([name for at, name in enumerate(room.names) if (bits >> at) & 1])
 
 
 def can_be_gone(room, value):

@@ -1,8 +1,8 @@
 """Orders: in which all who can ever leave do leave."""
 
-from leavelots.basics import is_index, is_sequence
+from leavelots.basics import bits_of, is_index, is_sequence, names_of
 from leavelots.errors import InvalidOrder, NoOrder
-from leavelots.lots import bits_of, hull, lots_after, may, names_of, stuck, who_can_leave
+from leavelots.lots import hull, lots_after, may, stuck, who_can_leave
 
 
 def is_order(room, value):
@@ -54,7 +54,7 @@ def order_at(room, at):
     gone = 0
     while after[gone]:
         lot, at = lot_at(after[gone], counts, at)
-        order.extend(names_of(room, lot ^ gone))
+        order.extend(names_of(room.names, lot ^ gone))
         gone = lot
     return tuple(order)
 
@@ -76,7 +76,7 @@ def number_of(room, order):
     number = 0
     gone = 0
     for name in order:
-        lot = gone | bits_of(room, [name])
+        lot = gone | bits_of(room.names, [name])
         # All orders that go on with a smaller name come first.
         number += sum([counts[other] for other in after[gone] if other < lot])
         gone = lot

@@ -1,8 +1,8 @@
 """Reasons: the least lots that can be gone with somebody in them, and the orders that tell a room."""
 
-from leavelots.basics import are_unlike, is_sequence, lot_of
+from leavelots.basics import are_unlike, is_sequence, lot_of, names_of
 from leavelots.errors import InvalidOrder
-from leavelots.lots import leavers, lots_after, names_of, others
+from leavelots.lots import leavers, lots_after, others
 from leavelots.orders import is_order
 from leavelots.rooms import Room
 from leavelots.rules import Rule
@@ -11,7 +11,7 @@ from leavelots.rules import Rule
 def reasons(room):
     """The ascending tuple of all pairs (x, reason)."""
     found = reason_bits(room)
-    return tuple(sorted([(names_of(room, found[lot])[0], names_of(room, lot)) for lot in found]))
+    return tuple(sorted([(names_of(room.names, found[lot])[0], names_of(room.names, lot)) for lot in found]))
 
 
 def reason_bits(room):
@@ -33,7 +33,7 @@ def order_through(room, chain):
     """Some order that begins with each lot of a chain, in which each lies within the next one."""
     order = []
     for bits in chain:
-        order = leavers(room, others(room, names_of(room, bits)), order)
+        order = leavers(room, others(room, names_of(room.names, bits)), order)
     return tuple(leavers(room, (), order))
 
 
@@ -46,7 +46,7 @@ def apart(room):
     # Koenig: with the links all as they are, what can be reached from the tops has one such reason of each chain.
     reached = search(wider, below, tops)[0]
     found = tops + [below[lot] for lot in reached]
-    return tuple(sorted([names_of(room, lot) for lot in found if lot not in reached]))
+    return tuple(sorted([names_of(room.names, lot) for lot in found if lot not in reached]))
 
 
 def wider_ones(room):

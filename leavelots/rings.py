@@ -1,7 +1,7 @@
 """Rings: the least lots of people who keep somebody waiting."""
 
-from leavelots.basics import are_unlike
-from leavelots.lots import hull, names_of, who_can_leave
+from leavelots.basics import are_unlike, names_of
+from leavelots.lots import hull, who_can_leave
 from leavelots.reasons import reason_bits
 
 
@@ -11,8 +11,8 @@ def rings(room):
     for reason, one in reason_bits(room).items():
         parts.setdefault(one, []).append(reason ^ one)
     # Somebody waits just as long as one of each reason stays.
-    pairs = [(names_of(room, one)[0], names_of(room, ring)) for one in parts for ring in least_meeting(parts[one])]
-    return tuple(sorted(pairs))
+    found = [(one, ring) for one in parts for ring in least_meeting(parts[one])]
+    return tuple(sorted([(names_of(room.names, one)[0], names_of(room.names, ring)) for one, ring in found]))
 
 
 def least_meeting(parts):

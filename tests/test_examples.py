@@ -1,9 +1,11 @@
-"""The examples of the document, as far as they need only the modules that are there, and those of README.md."""
+"""The examples of the document, and those of README.md."""
 
 import doctest
 import unittest
 from pathlib import Path
 
+from leavelots.desk import Desk
+from leavelots.kinds import peeled, taken_down, tree
 from leavelots.lots import bar_holds, hull, lots, may, stuck
 from leavelots.orders import ahead, last, many, number_of, order_at, swaps
 from leavelots.prices import best, least_worst
@@ -43,6 +45,18 @@ class Examples(unittest.TestCase):
     def test_section_8(self):
         costs = {"a": [5, 4, 0, 0], "b": [3, 3, 3, 3], "c": [9, 9, 1, 1], "d": [7, 7, 7, 2]}
         self.assertEqual((best(self.room, costs), least_worst(self.room, costs)), (("b", "a", "c", "d"), 4))
+
+    def test_section_9(self):
+        self.assertEqual(len(lots(tree([("a", "b"), ("b", "c")]))), 7)
+        ring = [("a", "b"), ("b", "c"), ("c", "d"), ("d", "a")]
+        self.assertEqual(stuck(taken_down(ring)), ("a", "b", "c", "d"))
+        self.assertEqual(may(peeled([("a", 0, 0), ("b", 4, 0), ("c", 0, 4), ("m", 1, 1)]), []), ("a", "b", "c"))
+        self.assertEqual(many(peeled([("a", 0, 0), ("b", 1, 0), ("c", 2, 0)])), 4)
+
+    def test_section_12(self):
+        desk = Desk()
+        told = [desk.say(word) for word in ("room a ; b if a", "may", "leave a", "gone", "many", "undo", "last")]
+        self.assertEqual(told, ["2", "a", "b", "a", "1", "undone", "b"])
 
     def test_readme(self):
         failed, tried = doctest.testfile(str(README), module_relative=False)

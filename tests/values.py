@@ -3,7 +3,9 @@
 from itertools import chain, combinations
 from random import Random
 
+from leavelots.desk import Desk
 from leavelots.errors import InvalidName
+from leavelots.led import Led
 from leavelots.rooms import Room
 from leavelots.rules import Rule
 
@@ -19,7 +21,7 @@ def plain_values():
     """Any values that are no sequences."""
     numbers = [0, 1, -1, 7, 10 ** 9, -10 ** 9, True, False, None]
     strings = ["", "a", "b", "zz", "abc", "abcd", "if", "A", "Ab", "a1", "1", "a b", " a", "a ", "a\n", "\n", "-"]
-    objects = [Rule("a"), Rule("b", ["a"]), Room(), Room.read("a\nb if a"), InvalidName("a")]
+    objects = [Rule("a"), Rule("b", ["a"]), Room(), Room.read("a\nb if a"), InvalidName("a"), Led(Room()), Desk()]
     return numbers + strings + objects
 
 
